@@ -8,6 +8,7 @@ from halfmoved.forms import form_of, is_piece
 from halfmoved.moves import Cap, Move, Put, Rename
 from halfmoved.parts import Part, Split
 from halfmoved.renumber import Renumber
+from halfmoved.sides import Cleave, Rows
 from halfmoved.turns import Shift, Turn
 from test_move_case import MoveCase
 
@@ -61,19 +62,28 @@ def all_moves(chance, table):
     ]
 
 
-class TestLaws(MoveCase):
-    def test_all_moves(self):
-        chance = random.Random(31)
-        for turn in range(60):
-            table = chance.choice(TABLES)
-            for move, wanted in all_moves(chance, table):
-                old = random_form(chance, table, wanted)
-                new = move.after(old)
-                self.leads(move, old, new)
-                olds = [random_piece(chance, old) for count in range(4)]
-                news = [random_piece(chance, new) for count in range(4)]
-                self.forth_and_back(chance, move, old, new, olds, news)
-                self.back_and_forth(chance, move, old, new, olds, news)
+def side_moves(chance):
+    # Each with the columns that it needs in the head.
+    side = chance.choice(["aa", "mm", "zzz"])
+    kind = chance.choice(list(VALUES))
+    other = chance.choice(list(VALUES))
+    return [
+        (Rows("p", side), {"p": ("list", ("whole",))}),
+        (Rows("p", side), {"p": ("some", ("without", "/"))}),
+        (Cleave(side, []), {}),
+        (Cleave(side, ["p"]), {"p": kind}),
+        (Cleave(side, ["q", "p"]), {"p": kind, "q": other}),
+    ]
+
+
+class LawCase(MoveCase):
+    def keeps_the_laws(self, chance, move, old):
+        new = move.after(old)
+        self.leads(move, old, new)
+        olds = [random_piece(chance, old) for count in range(4)]
+        news = [random_piece(chance, new) for count in range(4)]
+        self.forth_and_back(chance, move, old, new, olds, news)
+        self.back_and_forth(chance, move, old, new, olds, news)
 
     def earlier_left(self, chance, move, old, new, olds, news):
         # Told by the move of whatever piece: by left, or by back.
@@ -111,6 +121,21 @@ class TestLaws(MoveCase):
             self.assertTrue(is_piece(old, came))
             self.same(move.forth(old, deepcopy(came), deepcopy(left)), (piece, right))
             self.same(move.left(old, deepcopy(came), deepcopy(left)), left)
+
+
+class TestLaws(LawCase):
+    def test_all_moves(self):
+        chance = random.Random(31)
+        for turn in range(60):
+            table = chance.choice(TABLES)
+            for move, wanted in all_moves(chance, table):
+                self.keeps_the_laws(chance, move, random_form(chance, table, wanted))
+
+    def test_moves_of_the_head_and_side_tables(self):
+        chance = random.Random(41)
+        for turn in range(60):
+            for move, wanted in side_moves(chance):
+                self.keeps_the_laws(chance, move, random_form(chance, "main", wanted))
 
 
 class TestKeeping(MoveCase):
