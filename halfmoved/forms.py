@@ -4,6 +4,7 @@ from halfmoved.errors import NoForm, NoTable
 from halfmoved.kinds import fits, is_kind, is_name, is_whole
 
 SIDE_SORTS = ("twin", "many", "some")
+LONE_SORTS = ("head", "twin")
 
 
 def form_of(size, tables):
@@ -107,7 +108,7 @@ def are_rows(form, table, rows):
     if not isinstance(rows, list):
         return False
     sort = sort_of(form, table)
-    if sort in ("head", "twin") and len(rows) != 1:
+    if sort in LONE_SORTS and len(rows) != 1:
         return False
     if sort == "some" and len(rows) == 0:
         return False

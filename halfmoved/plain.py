@@ -1,10 +1,8 @@
 """The plain table: things in one form, written by steps and held to the rules of the form."""
 
 from halfmoved.errors import BadRow, Gap, Lone, Missing, NoTable, Nowhere, Taken, Twice
-from halfmoved.forms import columns_of, copied, head_of, is_row, sort_of, tables_of
+from halfmoved.forms import LONE_SORTS, columns_of, copied, head_of, is_row, sort_of, tables_of
 from halfmoved.kinds import is_whole
-
-LONE_SORTS = ("head", "twin")
 
 
 class Plain:
